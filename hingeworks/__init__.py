@@ -1,0 +1,1 @@
+"""Hingeworks: models that were learned, decided for all inputs."""
