@@ -1,7 +1,7 @@
 """Planes: linear expressions in numbered letters."""
 
 from hingeworks.errors import BadGiven, BadNumber
-from hingeworks.ratios import Ratio, as_ratio, as_ratios, is_integer, is_ratio, least_whole
+from hingeworks.ratios import Ratio, as_ratio, as_ratios, is_integer, is_ratio, least_whole, mixed_ratio
 
 
 class Plane:
@@ -69,6 +69,13 @@ def letter_plane(place, size):
     check_size(size)
     check_place(place, size)
     return Plane(0, [1 if at == place else 0 for at in range(size)])
+
+
+def mixed_plane(fixed, pairs, size):
+    """The plane of this size that is the number plus the sum of the pairs, a ratio times a plane each."""
+    terms = [(ratio, plane) for ratio, plane in pairs if ratio.top != 0]
+    slopes = [mixed_ratio(Ratio(0), [(ratio, plane.slopes[at]) for ratio, plane in terms]) for at in range(size)]
+    return Plane(mixed_ratio(fixed, [(ratio, plane.fixed) for ratio, plane in terms]), slopes)
 
 
 def scale_of(plane):

@@ -99,6 +99,22 @@ def as_ratios(values):
     return tuple([as_ratio(value) for value in values])
 
 
+def mixed_ratio(fixed, pairs):
+    """The Ratio that is one Ratio plus the sum of the products of pairs of Ratios.
+
+    It is brought to its lowest terms once, at the end, which is faster than adding up Ratios.
+    """
+    top = fixed.top
+    bottom = fixed.bottom
+    for one, other in pairs:
+        if one.top != 0 and other.top != 0:
+            part = one.bottom * other.bottom
+            whole = lcm(bottom, part)
+            top = top * (whole // bottom) + one.top * other.top * (whole // part)
+            bottom = whole
+    return Ratio(top, bottom)
+
+
 def least_whole(ratios):
     """The ratios times one ratio above 0: integers without a common factor, or all 0."""
     bottom = 1

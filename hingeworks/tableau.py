@@ -22,7 +22,7 @@ class Tableau:
 
     def __init__(self, rows, size, aim=None):
         self.size = size
-        self.planes = [plane for plane, _ in rows]
+        self.rows = list(rows)
         self.bottom = 1
         self.lines = [first_line(plane, is_strict) for plane, is_strict in rows]
         self.left = list(range(len(self.lines)))
@@ -30,6 +30,56 @@ class Tableau:
         if aim is not None:
             self.lines.append(first_line(aim, False))
             self.left.append(-1 - size)
+
+    def with_row(self, row):
+        """A tableau that has one row more; this one stays as it is. There is no aim."""
+        made = self.copied()
+        made.rows.append(row)
+        made.lines.append(self.line_of(row))
+        made.left.append(len(self.rows))
+        return made
+
+    def inside(self):
+        """A tableau of the inner points: rows whose planes are not numbers are strict. There is no aim."""
+        made = self.copied()
+        made.rows = [(plane, is_strict or not plane.is_number) for plane, is_strict in self.rows]
+        turned = [before[1] != after[1] for before, after in zip(self.rows, made.rows)]
+        made.lines = [self.narrowed_line(line, label, turned) for line, label in zip(self.lines, self.left)]
+        return made
+
+    def copied(self):
+        """A tableau that is equal to this one. Lines are never changed, so both may have the same ones."""
+        made = Tableau([], self.size)
+        made.rows = list(self.rows)
+        made.bottom = self.bottom
+        made.lines = list(self.lines)
+        made.left = list(self.left)
+        made.right = list(self.right)
+        return made
+
+    def line_of(self, row):
+        """The line of a further gauge by what is on the right."""
+        plane, is_strict = row
+        number, margin_share, *shares = first_line(plane, is_strict)
+        line = [number * self.bottom, margin_share * self.bottom, *([0] * self.size)]
+        for at, label in enumerate(self.right):
+            if label < 0:
+                line[at + FIRST_SHARE] = shares[-1 - label] * self.bottom
+        for label, other in zip(self.left, self.lines):
+            if label < 0 and shares[-1 - label] != 0:
+                share = shares[-1 - label]
+                line = [here + share * there for here, there in zip(line, other)]
+        return line
+
+    def narrowed_line(self, line, label, turned):
+        """A line if the gauges for which turned is True are less by the margin than before."""
+        margin_share = line[1]
+        if label >= 0 and turned[label]:
+            margin_share = margin_share - self.bottom
+        for other, share in zip(self.right, line[FIRST_SHARE:]):
+            if other >= 0 and turned[other]:
+                margin_share = margin_share + share
+        return [line[0], margin_share, *line[FIRST_SHARE:]]
 
     def settle(self):
         """Brings all gauges to at least 0; returns None, or the place of a line that shows that they cannot be.
@@ -163,7 +213,7 @@ class Tableau:
         """Weights of the place that show that the line cannot be brought to 0."""
         weights = self.falling_weights(self.lines[at])
         label = self.left[at]
-        weights[label] = scale_of(self.planes[label]) * self.bottom
+        weights[label] = scale_of(self.rows[label][0]) * self.bottom
         return least_whole(weights)
 
     def bound_weights(self, scale):
@@ -174,10 +224,10 @@ class Tableau:
 
     def falling_weights(self, line):
         """For each row by how much of its plane the line falls, which nothing on the right can raise."""
-        weights = [Ratio(0)] * len(self.planes)
+        weights = [Ratio(0)] * len(self.rows)
         for label, share in zip(self.right, line[FIRST_SHARE:]):
             if label >= 0:
-                weights[label] = scale_of(self.planes[label]) * -share
+                weights[label] = scale_of(self.rows[label][0]) * -share
         return weights
 
 

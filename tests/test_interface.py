@@ -8,6 +8,11 @@ FUNCTIONS = {
     "empties": ["point_of", "empty_weights", "inner_of", "flat_weights"],
     "extremes": ["greatest", "least"],
     "needless": ["needed_rows", "beyond_point"],
+    "corners": ["corners"],
+    "working": ["worked"],
+    "slopes": ["rule_slopes", "way_slope"],
+    "asking": ["asked"],
+    "unfolding": ["unfolded"],
 }
 METHODS = {
     ("ratios", "Ratio"): ["__init__", "__add__", "__sub__", "__mul__", "__neg__", "__eq__", "over", "compared",
@@ -15,6 +20,13 @@ METHODS = {
     ("planes", "Plane"): ["__init__", "__add__", "__sub__", "__mul__", "__neg__", "__eq__", "at", "put_in"],
     ("places", "Place"): ["__init__", "__eq__", "holds", "closed_holds", "with_rows"],
     ("extremes", "Extreme"): ["__init__"],
+    ("features", "Features"): ["__init__", "__eq__", "low", "high", "unit", "fits", "place_rows", "all_settings"],
+    ("models", "Model"): ["__init__", "__eq__", "kind_of", "classes_of", "walked", "all_walked"],
+    ("working", "Worked"): ["__init__"],
+    ("slopes", "Jump"): ["__init__"],
+    ("asking", "Asked"): ["__init__"],
+    ("unfolding", "Leaf"): ["__init__"],
+    ("unfolding", "Unfolded"): ["__init__"],
 }
 
 

@@ -35,6 +35,15 @@ STATEMENTS = (
     ast.ClassDef, ast.ImportFrom, ast.Import,
 )
 
+# Methods of builtin values that the package calls; none of its own classes has such a method or attribute.
+BUILTIN_METHODS = {"append", "count", "extend", "index", "insert", "items", "join", "lstrip", "partition", "pop", "split",
+                   "startswith", "bit_length"}
+
+
+def method_names(tree):
+    """The names of the methods in a file."""
+    return {row.name for node in tree.body if isinstance(node, ast.ClassDef) for row in node.body if hasattr(row, "name")}
+
 
 def package_files():
     return sorted(path for path in ROOT.rglob("*") if "__pycache__" not in path.parts and path.is_file())
@@ -170,6 +179,42 @@ class LanguageTest(unittest.TestCase):
         if isinstance(node, ast.Tuple):
             return all(self.is_plain(part) for part in node.elts)
         return isinstance(node, (ast.Constant, ast.BinOp, ast.Name))
+
+    def test_imports_make_no_circle(self):
+        below = {f"hingeworks.{path.stem}": [node.module for node in ast.walk(tree) if isinstance(node, ast.ImportFrom)]
+                 for path, tree in self.trees}
+        left = dict(below)
+        while left:
+            free = [name for name in left if not any(other in left for other in left[name])]
+            self.assertNotEqual(free, [], sorted(left))
+            for name in free:
+                del left[name]
+
+    def test_imports_are_used_and_their_names_mean_nothing_else(self):
+        for path, tree in self.trees:
+            imports = [alias.name for node in tree.body if isinstance(node, ast.ImportFrom) for alias in node.names]
+            read = {node.id for node in ast.walk(tree) if isinstance(node, ast.Name) and isinstance(node.ctx, ast.Load)}
+            self.assertEqual(sorted(set(imports)), sorted(imports), path)
+            self.assertEqual([name for name in imports if name not in read], [], path)
+            classes = [node.name for node in tree.body if isinstance(node, ast.ClassDef)]
+            inner = [part for node in tree.body if isinstance(node, (ast.FunctionDef, ast.ClassDef))
+                     for part in ast.walk(node) if part is not node]
+            bound = {name for part in inner for name in bound_names(part)} - method_names(tree)
+            self.assertEqual([name for name in imports + classes if name in bound], [], path)
+
+    def test_methods_and_attributes_have_unlike_names(self):
+        assigned = {node.attr for _, node in self.nodes(ast.Attribute) if isinstance(node.ctx, ast.Store)}
+        methods = {row.name for _, made in self.nodes(ast.ClassDef) for row in made.body if hasattr(row, "name")}
+        self.assertEqual(sorted(assigned & methods), [])
+        for where, node in self.nodes(ast.Attribute):
+            known = node.attr in assigned or node.attr in methods or node.attr in BUILTIN_METHODS
+            self.assertTrue(known, (where, node.attr))
+        for name in assigned | methods:
+            self.assertNotIn(name, BUILTIN_METHODS)
+
+    def test_no_generators(self):
+        for where, _ in self.nodes(ast.GeneratorExp, ast.Yield, ast.YieldFrom, ast.SetComp):
+            self.fail(where)
 
     def test_words_that_do_not_occur(self):
         words = re.compile(r"_wall|_WallAttr|dataclass|overload|contextmanager")

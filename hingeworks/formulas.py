@@ -1,0 +1,45 @@
+"""Planes as models write them: over the letters, which are features and earlier values."""
+
+from hingeworks.planes import mixed_plane
+
+
+class Formula:
+    """A number plus a multiple of each of some letters; pairs (place of the letter among all results, multiple)."""
+
+    def __init__(self, fixed, parts):
+        self.fixed = fixed
+        self.parts = tuple(parts)
+
+    def plane_for(self, results):
+        """The plane that this is, if the results of features and lines stand for the letters."""
+        pairs = [(multiple, results[place]) for place, multiple in self.parts]
+        return mixed_plane(self.fixed, pairs, results[0].size)
+
+
+def read_formula(reader, letters):
+    """Takes a plane, whose letters are keys of a dict with their places; ends before a "," or at the end of the row."""
+    fixed = reader.take_ratio()
+    parts = []
+    last = -1
+    while reader.ahead() is not None and reader.ahead() != ",":
+        last, multiple = read_part(reader, letters, last)
+        parts.append((last, multiple))
+    return Formula(fixed, parts)
+
+
+def read_part(reader, letters, last):
+    """Takes a letter that stands behind the last one, and its multiple."""
+    letter = reader.take()
+    reader.refuse_unless(letter in letters and letters[letter] > last)
+    multiple = reader.take_ratio()
+    reader.refuse_unless(multiple.top != 0)
+    return letters[letter], multiple
+
+
+def read_formulas(reader, letters):
+    """Takes one or more planes with a "," between any two."""
+    found = [read_formula(reader, letters)]
+    while reader.ahead() == ",":
+        reader.take()
+        found.append(read_formula(reader, letters))
+    return found

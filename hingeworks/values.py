@@ -1,0 +1,100 @@
+"""The lines of values: what they ask, and the number that they have.
+
+The step of a line takes the results of the features and of all lines before it, planes and classes, and its own
+answers so far. It returns the plane of the next switch and None, or None and the result of the line.
+"""
+
+from hingeworks.planes import number_plane
+
+
+class Line:
+    """What all values and verdicts have; a value has no classes."""
+
+    def __init__(self, name, kind, classes, switches):
+        self.name = name
+        self.kind = kind
+        self.classes = tuple(classes)
+        self.switches = switches
+
+
+class SumLine(Line):
+    """The result is a plane."""
+
+    def __init__(self, name, formula):
+        Line.__init__(self, name, "sum", (), 0)
+        self.formula = formula
+
+    def step(self, results, answers):
+        """The next switch, or the result."""
+        return None, self.formula.plane_for(results)
+
+
+class HingeLine(Line):
+    """The plane where it is above 0, elsewhere the plane times the factor: 0 for a hinge, any ratio if leaky."""
+
+    def __init__(self, name, kind, factor, formula):
+        Line.__init__(self, name, kind, (), 1)
+        self.factor = factor
+        self.formula = formula
+
+    def step(self, results, answers):
+        """The next switch, or the result."""
+        plane = self.formula.plane_for(results)
+        if len(answers) == 0:
+            return plane, None
+        return None, plane if answers[0] == 1 else plane * self.factor
+
+
+class ClipLine(Line):
+    """The plane, but not below one number and not above another one."""
+
+    def __init__(self, name, low_end, high_end, formula):
+        Line.__init__(self, name, "clip", (), 2)
+        self.low_end = low_end
+        self.high_end = high_end
+        self.formula = formula
+
+    def step(self, results, answers):
+        """The next switch, or the result."""
+        plane = self.formula.plane_for(results)
+        low_plane = number_plane(self.low_end, plane.size)
+        high_plane = number_plane(self.high_end, plane.size)
+        if len(answers) == 0:
+            return plane - low_plane, None
+        if answers[0] == 0:
+            return None, low_plane
+        if len(answers) == 1:
+            return plane - high_plane, None
+        return None, high_plane if answers[1] == 1 else plane
+
+
+class HighestLine(Line):
+    """The greatest one of some planes, of equal ones the first."""
+
+    def __init__(self, name, formulas):
+        Line.__init__(self, name, "highest", (), len(formulas) - 1)
+        self.formulas = tuple(formulas)
+
+    def step(self, results, answers):
+        """The next switch, or the result."""
+        plane = rival_plane(self.formulas, results, answers)
+        if plane is not None:
+            return plane, None
+        return None, self.formulas[best_place(answers)].plane_for(results)
+
+
+def best_place(answers):
+    """The place of the best plane behind the answers to the switches of its later rivals."""
+    best = 0
+    for place, answer in enumerate(answers):
+        if answer == 1:
+            best = place + 1
+    return best
+
+
+def rival_plane(formulas, results, answers):
+    """The switch of the next plane that is compared with the best one, or None if all were."""
+    if len(answers) == len(formulas) - 1:
+        return None
+    best = formulas[best_place(answers)].plane_for(results)
+    return formulas[len(answers) + 1].plane_for(results) - best

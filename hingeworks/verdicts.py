@@ -1,0 +1,98 @@
+"""The lines of verdicts by planes and by votes, and gates: what they ask, and their results.
+
+Their steps are those that values.py tells.
+"""
+
+from hingeworks.values import Line, best_place, rival_plane
+
+
+class SignLine(Line):
+    """The first class where a plane is 0 or below, elsewhere the second one."""
+
+    def __init__(self, name, classes, formula):
+        Line.__init__(self, name, "sign", classes, 1)
+        self.formula = formula
+
+    def step(self, results, answers):
+        """The next switch, or the result."""
+        if len(answers) == 0:
+            return self.formula.plane_for(results), None
+        return None, self.classes[answers[0]]
+
+
+class ChooseLine(Line):
+    """The class of the greatest one of some planes, of equal ones the first."""
+
+    def __init__(self, name, classes, formulas):
+        Line.__init__(self, name, "choose", classes, len(formulas) - 1)
+        self.formulas = tuple(formulas)
+
+    def step(self, results, answers):
+        """The next switch, or the result."""
+        plane = rival_plane(self.formulas, results, answers)
+        if plane is not None:
+            return plane, None
+        return None, self.classes[best_place(answers)]
+
+
+class RulesLine(Line):
+    """The class of the first rule, a pair of a class and planes, whose planes all are above 0."""
+
+    def __init__(self, name, rules, other_class):
+        classes = unlike([*[told for told, _ in rules], other_class])
+        Line.__init__(self, name, "rules", classes, sum([len(formulas) for _, formulas in rules]))
+        self.rules = tuple(rules)
+        self.other_class = other_class
+
+    def step(self, results, answers):
+        """The next switch, or the result."""
+        asked = 0
+        for told, formulas in self.rules:
+            met = 0
+            while met < len(formulas) and asked + met < len(answers) and answers[asked + met] == 1:
+                met += 1
+            if met == len(formulas):
+                return None, told
+            if asked + met == len(answers):
+                return formulas[met].plane_for(results), None
+            asked = asked + met + 1
+        return None, self.other_class
+
+
+class VotesLine(Line):
+    """The class that most of some verdicts have."""
+
+    def __init__(self, name, classes, places):
+        Line.__init__(self, name, "votes", classes, 0)
+        self.places = tuple(places)
+
+    def step(self, results, answers):
+        """The next switch, or the result."""
+        return None, most_voted([results[place] for place in self.places], self.classes)
+
+
+class GateLine(Line):
+    """The result of the value or verdict that stands behind the class that a verdict has."""
+
+    def __init__(self, name, classes, place, choices):
+        Line.__init__(self, name, "gate", classes, 0)
+        self.place = place
+        self.choices = dict(choices)
+
+    def step(self, results, answers):
+        """The next switch, or the result."""
+        return None, results[self.choices[results[self.place]]]
+
+
+def most_voted(votes, classes):
+    """The class that stands most often among the votes, of several such classes the first one."""
+    best = classes[0]
+    for told in classes:
+        if votes.count(told) > votes.count(best):
+            best = told
+    return best
+
+
+def unlike(names):
+    """The names in their order, each once."""
+    return tuple({name: True for name in names})

@@ -1,0 +1,58 @@
+"""Models that are evaluated over planes, switch by switch."""
+
+
+class Walk:
+    """Where the evaluation of a model stands behind some answers.
+
+    `results` are those of the features and of the lines that are done, in the order of the text; `plane` is that of
+    the next switch, None if no switch is left. `answers` are those of the line that is not done.
+    """
+
+    def __init__(self, model, results, answers):
+        self.model = model
+        self.results = list(results)
+        self.answers = answers
+        self.plane = None
+        first = len(model.features.names)
+        while self.plane is None and len(self.results) < first + len(model.lines):
+            line = model.lines[len(self.results) - first]
+            self.plane, told = line.step(self.results, self.answers)
+            if self.plane is None:
+                self.results.append(told)
+                self.answers = ()
+
+    def answered(self, answer):
+        """The walk behind one more answer; this one stays as it is."""
+        return Walk(self.model, self.results, (*self.answers, answer))
+
+
+class JointWalk:
+    """Where the evaluation of several models, one after the other, stands behind some answers.
+
+    `told` are the results of the models that are done; `plane` is as for a walk.
+    """
+
+    def __init__(self, models, letters, told, walk):
+        self.models = models
+        self.letters = letters
+        self.told = told
+        self.walk = walk
+        while self.walk.plane is None and len(self.told) < len(models):
+            self.told = (*self.told, self.walk.results[-1])
+            if len(self.told) < len(models):
+                self.walk = begun(models[len(self.told)], letters)
+        self.plane = self.walk.plane
+
+    def answered(self, answer):
+        """The walk behind one more answer; this one stays as it is."""
+        return JointWalk(self.models, self.letters, self.told, self.walk.answered(answer))
+
+
+def begun(model, letters):
+    """The walk of a model before any answer; the letters are planes of one size that stand for the features."""
+    return Walk(model, letters, ())
+
+
+def begun_together(models, letters):
+    """The walk of several models before any answer."""
+    return JointWalk(models, letters, (), begun(models[0], letters))
