@@ -17,7 +17,7 @@ class Known:
         self.taken = {name: place for place, name in enumerate(names)}
         self.letters = dict(self.taken)
         self.lines = []
-        self.values = {}
+        self.numbers = {}
         self.verdicts = {}
 
     def keep(self, line):
@@ -27,7 +27,7 @@ class Known:
         self.taken[line.name] = place
         if line.classes == ():
             self.letters[line.name] = place
-            self.values[line.name] = place
+            self.numbers[line.name] = place
         else:
             self.verdicts[line.name] = place
 
@@ -220,7 +220,7 @@ def read_gate(reader, known, name):
     verdict = reader.take()
     reader.refuse_unless(verdict in known.verdicts)
     place = known.verdicts[verdict]
-    fitting = {**known.values, **known.verdicts}
+    fitting = {**known.numbers, **known.verdicts}
     choices = []
     classes = []
     for told in known.classes_at(place):
@@ -229,7 +229,7 @@ def read_gate(reader, known, name):
         reader.refuse_unless(chosen in fitting)
         choices.append((told, fitting[chosen]))
         classes = [*classes, *known.classes_at(fitting[chosen])]
-        fitting = known.values if chosen in known.values else known.verdicts
+        fitting = known.numbers if chosen in known.numbers else known.verdicts
     reader.end_row()
     return GateLine(name, unlike(classes), place, choices)
 

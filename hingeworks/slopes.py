@@ -52,7 +52,7 @@ def check_way(features, given, way):
         raise BadGiven("way")
     for name, ratio, step in zip(features.fractions, features.fractions_of(given), as_ratios(way)):
         end = features.high(name) if step.top > 0 else features.low(name)
-        if step.top != 0 and end is not None and end == ratio:
+        if step.top != 0 and ratio == end:
             raise BadGiven("way")
 
 

@@ -49,7 +49,7 @@ class RulesLine(Line):
         asked = 0
         for told, formulas in self.rules:
             met = 0
-            while met < len(formulas) and asked + met < len(answers) and answers[asked + met] == 1:
+            while asked + met < len(answers) and answers[asked + met] == 1:
                 met += 1
             if met == len(formulas):
                 return None, told
