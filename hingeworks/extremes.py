@@ -21,9 +21,26 @@ class Extreme:
 def greatest(plane, place):
     """The greatest worth of the plane over the place."""
     check_sizes(plane, place)
-    tableau = Tableau(place.rows, place.size, plane)
+    return greatest_over(plane, settled_tableau(place))
+
+
+def least(plane, place):
+    """The least worth of the plane over the place."""
+    check_sizes(plane, place)
+    return least_over(plane, settled_tableau(place))
+
+
+def settled_tableau(place):
+    """A settled tableau of a place that has a point."""
+    tableau = Tableau(place.rows, place.size)
     if tableau.settle() is not None:
         raise EmptyPlace()
+    return tableau
+
+
+def greatest_over(plane, settled):
+    """The greatest worth of the plane over the place of a settled tableau."""
+    tableau = settled.with_aim(plane)
     column = tableau.climb()
     if column is not None:
         return Extreme("endless", None, tableau.point_within(), tableau.way_up(column), None, None)
@@ -37,8 +54,12 @@ def greatest(plane, place):
     return Extreme("reached", value, tableau.point_within(), None, weights, bottom)
 
 
-def least(plane, place):
-    """The least worth of the plane over the place."""
-    found = greatest(-plane, place)
-    value = None if found.value is None else -found.value
-    return Extreme(found.kind, value, found.point, found.way, found.weights, found.bottom)
+def least_over(plane, settled):
+    """The least worth of the plane over the place of a settled tableau."""
+    return turned_extreme(greatest_over(-plane, settled))
+
+
+def turned_extreme(extreme):
+    """The least worth of a plane, from the greatest one of the plane times -1."""
+    value = None if extreme.value is None else -extreme.value
+    return Extreme(extreme.kind, value, extreme.point, extreme.way, extreme.weights, extreme.bottom)

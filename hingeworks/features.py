@@ -2,7 +2,7 @@
 
 from hingeworks.errors import NoFeature
 from hingeworks.planes import letter_plane, number_plane
-from hingeworks.ratios import Ratio, as_ratio, is_ratio
+from hingeworks.ratios import Ratio, as_ratio, as_ratios, is_ratio
 from hingeworks.reading import Reader
 
 MOST_FEATURES = 6
@@ -102,6 +102,12 @@ class Features:
             else:
                 letters.append(letter_plane(self.fractions.index(line.name), size))
         return tuple(letters)
+
+    def input_of(self, settings, point):
+        """The input that has these settings and the ratios of this point."""
+        whole = list(settings)
+        ratios = list(point)
+        return as_ratios([whole.pop(0) if line.is_yesno else ratios.pop(0) for line in self.lines])
 
     def settings_of(self, given):
         """The settings of an input."""

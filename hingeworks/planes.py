@@ -45,10 +45,7 @@ class Plane:
     def at(self, point):
         """The worth at a point, a Ratio."""
         check_point(point, self.size)
-        worth = self.fixed
-        for slope, ratio in zip(self.slopes, point):
-            worth = worth + slope * ratio
-        return worth
+        return mixed_ratio(self.fixed, list(zip(self.slopes, as_ratios(point))))
 
     def put_in(self, place, ratio):
         """The plane of size one less in which the letter with this index is this ratio."""
@@ -84,6 +81,22 @@ def scale_of(plane):
         if whole != 0:
             return Ratio(whole).over(ratio)
     return Ratio(1)
+
+
+def plane_key(plane):
+    """Integers that are the same just for equal planes."""
+    return tuple([whole for ratio in (plane.fixed, *plane.slopes) for whole in (ratio.top, ratio.bottom)])
+
+
+def hyperplane_row(plane):
+    """The row of the hyperplane at which a plane that is not a number is 0: the first slope but 0 is above 0."""
+    leading = [slope for slope in plane.row[1:] if slope != 0][0]
+    return plane.row if leading > 0 else tuple([-whole for whole in plane.row])
+
+
+def row_plane(row):
+    """The plane whose number and multiples are the integers of a row."""
+    return Plane(row[0], row[1:])
 
 
 def check_size(size):

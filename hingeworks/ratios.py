@@ -115,6 +115,23 @@ def mixed_ratio(fixed, pairs):
     return Ratio(top, bottom)
 
 
+def greatest_ratio(ratios):
+    """The greatest one of some ratios."""
+    best = ratios[0]
+    for ratio in ratios:
+        if best.under(ratio):
+            best = ratio
+    return best
+
+
+def ascending(pairs):
+    """The pairs of a Ratio and anything else from the least Ratio to the greatest one, as a tuple."""
+    whole = 1
+    for ratio, _ in pairs:
+        whole = lcm(whole, ratio.bottom)
+    return tuple(sorted(pairs, key=lambda pair: pair[0].top * (whole // pair[0].bottom)))
+
+
 def least_whole(ratios):
     """The ratios times one ratio above 0: integers without a common factor, or all 0."""
     bottom = 1

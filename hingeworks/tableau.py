@@ -20,16 +20,13 @@ class Tableau:
     left; its label is -1 - size. Only labels from 0 on have to be at least 0.
     """
 
-    def __init__(self, rows, size, aim=None):
+    def __init__(self, rows, size):
         self.size = size
         self.rows = list(rows)
         self.bottom = 1
         self.lines = [first_line(plane, is_strict) for plane, is_strict in rows]
         self.left = list(range(len(self.lines)))
         self.right = [-1 - letter for letter in range(size)]
-        if aim is not None:
-            self.lines.append(first_line(aim, False))
-            self.left.append(-1 - size)
 
     def with_row(self, row):
         """A tableau that has one row more; this one stays as it is. There is no aim."""
@@ -37,6 +34,21 @@ class Tableau:
         made.rows.append(row)
         made.lines.append(self.line_of(row))
         made.left.append(len(self.rows))
+        return made
+
+    def with_letter(self):
+        """A tableau that has one letter more, the last one, which no row so far has; this one stays as it is."""
+        made = self.copied()
+        made.size = self.size + 1
+        made.lines = [[*line, 0] for line in self.lines]
+        made.right.append(-1 - self.size)
+        return made
+
+    def with_aim(self, plane):
+        """A tableau that has this plane as its aim; this one stays as it is, and has no aim."""
+        made = self.copied()
+        made.lines.append(self.line_of((plane, False)))
+        made.left.append(-1 - self.size)
         return made
 
     def inside(self):
@@ -189,6 +201,11 @@ class Tableau:
     def point_within(self):
         """A point of the place, where the tableau is settled."""
         return tuple([ratio + step for ratio, step in zip(self.vertex(), self.way_in())])
+
+    def point_with(self, row):
+        """A point of the place at which one more row holds, or None if there is none; this tableau stays as it is."""
+        made = self.with_row(row)
+        return made.point_within() if made.settle() is None else None
 
     def room(self):
         """The greatest number up to 1 that the margin may be, so that all gauges are at least 0."""

@@ -1,22 +1,25 @@
 """All leaves of one or more models, and weights for the answers that no input gives."""
 
+from hingeworks.branching import first_branch
 from hingeworks.errors import Unlike
 from hingeworks.models import check_switches
 from hingeworks.places import Place
-from hingeworks.tableau import Tableau
-from hingeworks.walking import begun_together
 
 
 class Leaf:
-    """Settings and a complete row of answers that some input gives."""
+    """Settings and a complete row of answers that some input gives.
 
-    def __init__(self, settings, answers, place, told, point, is_full):
+    `tableau` is the settled tableau of its place, on which further questions begin.
+    """
+
+    def __init__(self, settings, answers, place, told, point, is_full, tableau):
         self.settings = settings
         self.answers = answers
         self.place = place
         self.told = told
         self.point = point
         self.is_full = is_full
+        self.tableau = tableau
 
 
 class Unfolded:
@@ -27,17 +30,6 @@ class Unfolded:
         self.left_out = tuple(left_out)
 
 
-class Branch:
-    """A row of answers that some input gives; the tableau of its place is settled."""
-
-    def __init__(self, settings, answers, rows, tableau, walk):
-        self.settings = settings
-        self.answers = answers
-        self.rows = rows
-        self.tableau = tableau
-        self.walk = walk
-
-
 def unfolded(model, *others):
     """The leaves of one or more models."""
     models = [model, *others]
@@ -45,44 +37,30 @@ def unfolded(model, *others):
         if other.features != model.features:
             raise Unlike("features")
     check_switches(sum([one.switches for one in models]))
+    rows = model.features.place_rows()
     leaves = []
     left_out = []
     for settings in model.features.all_settings():
-        unfold(first_branch(models, settings), leaves, left_out)
+        letters = model.features.letters_for(settings)
+        unfold(settings, first_branch(rows, [(one, letters) for one in models]), leaves, left_out)
     return Unfolded(leaves, left_out)
 
 
-def first_branch(models, settings):
-    """The branch without answers."""
-    features = models[0].features
-    rows = features.place_rows()
-    tableau = Tableau(rows, len(features.fractions))
-    # Each low end is below its high end, so these rows have a point.
-    tableau.settle()
-    return Branch(settings, (), rows, tableau, begun_together(models, features.letters_for(settings)))
-
-
-def unfold(branch, leaves, left_out):
+def unfold(settings, branch, leaves, left_out):
     """Adds the leaves of a branch, and what is left out behind it, to two lists."""
-    plane = branch.walk.plane
-    if plane is None:
-        leaves.append(leaf_of(branch))
-        return
-    for answer, row in ((0, (-plane, False)), (1, (plane, True))):
-        answers = (*branch.answers, answer)
-        tableau = branch.tableau.with_row(row)
-        at = tableau.settle()
-        if at is None:
-            rows = (*branch.rows, row)
-            unfold(Branch(branch.settings, answers, rows, tableau, branch.walk.answered(answer)), leaves, left_out)
-        else:
-            left_out.append((branch.settings, answers, tableau.blocked_weights(at)))
+    if branch.blocked is not None:
+        left_out.append((settings, branch.answers, branch.blocked_weights()))
+    elif branch.walk.plane is None:
+        leaves.append(leaf_of(settings, branch))
+    else:
+        for answer in (0, 1):
+            unfold(settings, branch.longer(answer), leaves, left_out)
 
 
-def leaf_of(branch):
-    """The leaf that a branch is if no switch is left."""
+def leaf_of(settings, branch):
+    """The leaf that a complete branch is."""
     inside = branch.tableau.inside()
     is_full = inside.settle() is None
     point = inside.point_within() if is_full else branch.tableau.point_within()
     place = Place(branch.rows, branch.tableau.size)
-    return Leaf(branch.settings, branch.answers, place, branch.walk.told, point, is_full)
+    return Leaf(settings, branch.answers, place, branch.walk.told, point, is_full, branch.tableau)

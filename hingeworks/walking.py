@@ -29,23 +29,24 @@ class Walk:
 class JointWalk:
     """Where the evaluation of several models, one after the other, stands behind some answers.
 
-    `told` are the results of the models that are done; `plane` is as for a walk.
+    `pairs` are the models with their letters. `told` are the results of the models that are done; `plane` is as for
+    a walk.
     """
 
-    def __init__(self, models, letters, told, walk):
-        self.models = models
-        self.letters = letters
+    def __init__(self, pairs, told, walk):
+        self.pairs = pairs
         self.told = told
         self.walk = walk
-        while self.walk.plane is None and len(self.told) < len(models):
+        while self.walk.plane is None and len(self.told) < len(pairs):
             self.told = (*self.told, self.walk.results[-1])
-            if len(self.told) < len(models):
-                self.walk = begun(models[len(self.told)], letters)
+            if len(self.told) < len(pairs):
+                model, letters = pairs[len(self.told)]
+                self.walk = begun(model, letters)
         self.plane = self.walk.plane
 
     def answered(self, answer):
         """The walk behind one more answer; this one stays as it is."""
-        return JointWalk(self.models, self.letters, self.told, self.walk.answered(answer))
+        return JointWalk(self.pairs, self.told, self.walk.answered(answer))
 
 
 def begun(model, letters):
@@ -53,6 +54,7 @@ def begun(model, letters):
     return Walk(model, letters, ())
 
 
-def begun_together(models, letters):
-    """The walk of several models before any answer."""
-    return JointWalk(models, letters, (), begun(models[0], letters))
+def begun_together(pairs):
+    """The walk of several models before any answer; each is a pair of a model and its letters, all of one size."""
+    model, letters = pairs[0]
+    return JointWalk(pairs, (), begun(model, letters))

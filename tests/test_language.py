@@ -36,8 +36,8 @@ STATEMENTS = (
 )
 
 # Methods of builtin values that the package calls.
-BUILTIN_METHODS = {"append", "count", "extend", "index", "insert", "items", "join", "lstrip", "partition", "pop", "split",
-                   "startswith", "bit_length"}
+BUILTIN_METHODS = {"append", "count", "extend", "index", "insert", "items", "join", "lstrip", "partition", "pop",
+                   "setdefault", "split", "startswith", "bit_length", "values"}
 # Names of these methods that own attributes and methods may have, too.
 FREE_ATTRIBUTES = {"count", "index", "title", "find", "get", "join", "lower", "upper", "split", "strip", "copy", "add"}
 FREE_METHODS = FREE_ATTRIBUTES | {"discard"}
@@ -171,6 +171,12 @@ class LanguageTest(unittest.TestCase):
         for where, node in self.nodes(ast.Call):
             if isinstance(node.func, ast.Name) and node.func.id in ("any", "all", "min", "max", "sum", "sorted"):
                 self.assertEqual([part for part in node.args if isinstance(part, ast.GeneratorExp)], [], where)
+
+    def test_what_stands_behind_a_star_in_a_call(self):
+        for where, node in self.nodes(ast.Call):
+            for part in node.args:
+                if isinstance(part, ast.Starred):
+                    self.assertIsInstance(part.value, (ast.Name, ast.Attribute, ast.List, ast.Tuple), where)
 
     def test_default_values(self):
         for where, node in self.nodes(ast.FunctionDef):
