@@ -13,6 +13,21 @@ FUNCTIONS = {
     "slopes": ["rule_slopes", "way_slope"],
     "asking": ["asked"],
     "unfolding": ["unfolded"],
+    "rims": ["rims"],
+    "areas": ["areas", "shares"],
+    "alike": ["apart", "alike_papers"],
+    "bounds": ["greatest_value", "least_value", "loss", "above"],
+    "classes": ["classes_met", "classes_together"],
+    "blind": ["blind_pair", "depends_on"],
+    "continuous": ["jump_of"],
+    "rising": ["falling_pair", "steepest"],
+    "exchanged": ["exchanged"],
+    "heaps": ["over_point", "cover", "least_heap", "heap_apart"],
+    "bends": ["unranged", "creases"],
+    "pairs": ["least_pair", "highest_of", "pair_apart", "pair_of"],
+    "onelayer": ["one_layer", "layer_model"],
+    "reasons": ["at_least", "reasons", "enough_papers", "turned"],
+    "turnings": ["nearest", "distance_of"],
 }
 METHODS = {
     ("ratios", "Ratio"): ["__init__", "__add__", "__sub__", "__mul__", "__neg__", "__eq__", "over", "compared",
@@ -27,6 +42,31 @@ METHODS = {
     ("asking", "Asked"): ["__init__"],
     ("unfolding", "Leaf"): ["__init__"],
     ("unfolding", "Unfolded"): ["__init__"],
+    ("rims", "Rim"): ["__init__"],
+    ("areas", "Area"): ["__init__"],
+    ("alike", "Apart"): ["__init__"],
+    ("bounds", "Worth"): ["__init__"],
+    ("rising", "Steep"): ["__init__"],
+    ("heaps", "Heap"): ["__init__", "__add__", "__mul__", "at", "at_top", "joined"],
+    ("heaps", "LeastHeap"): ["__init__"],
+    ("bends", "Crease"): ["__init__"],
+    ("pairs", "Pair"): ["__init__", "__add__", "__sub__", "__neg__", "__mul__", "at"],
+    ("onelayer", "Layer"): ["__init__", "at"],
+    ("onelayer", "Stop"): ["__init__"],
+    ("reasons", "Reasons"): ["__init__"],
+    ("turnings", "Nearest"): ["__init__"],
+}
+PARAMETERS = {
+    ("rims", "rims"): 1, ("areas", "areas"): 1, ("areas", "shares"): 1, ("alike", "apart"): 2,
+    ("alike", "alike_papers"): 2, ("bounds", "greatest_value"): 1, ("bounds", "least_value"): 1, ("bounds", "loss"): 2,
+    ("bounds", "above"): 3, ("classes", "classes_met"): 1, ("classes", "classes_together"): 2, ("blind", "blind_pair"): 2,
+    ("blind", "depends_on"): 1, ("continuous", "jump_of"): 1, ("rising", "falling_pair"): 2, ("rising", "steepest"): 2,
+    ("exchanged", "exchanged"): 3, ("heaps", "Heap"): 1, ("heaps", "over_point"): 2, ("heaps", "cover"): 2,
+    ("heaps", "least_heap"): 1, ("heaps", "heap_apart"): 2, ("bends", "unranged"): 1, ("bends", "creases"): 1,
+    ("pairs", "Pair"): 2, ("pairs", "least_pair"): 1, ("pairs", "highest_of"): 1, ("pairs", "pair_apart"): 2,
+    ("pairs", "pair_of"): 1, ("onelayer", "one_layer"): 1, ("onelayer", "Layer"): 2, ("onelayer", "layer_model"): 2,
+    ("reasons", "at_least"): 2, ("reasons", "reasons"): 2, ("reasons", "enough_papers"): 3, ("reasons", "turned"): 3,
+    ("turnings", "nearest"): 3, ("turnings", "distance_of"): 4,
 }
 
 
@@ -48,6 +88,12 @@ class InterfaceTest(unittest.TestCase):
             self.assertEqual(made.__module__, f"hingeworks.{module}")
             for method in methods:
                 self.assertIn(method, vars(made), (name, method))
+
+    def test_parameters_by_position(self):
+        for (module, name), many in PARAMETERS.items():
+            told = inspect.signature(self.found(module, name)).parameters.values()
+            self.assertEqual([one.kind for one in told], [inspect.Parameter.POSITIONAL_OR_KEYWORD] * many, name)
+            self.assertTrue(all(one.default is inspect.Parameter.empty for one in told), name)
 
     def test_errors_are_defined_in_their_file(self):
         errors = importlib.import_module("hingeworks.errors")
