@@ -8,8 +8,6 @@ from hingeworks.twofold import pair_found, unlike_point
 def exchanged(model, one, two):
     """An input and its exchanged input that have unlike results, or None if there is none."""
     features = model.features
-    for name in (one, two):
-        features.line_of(name)
     if not may_be_exchanged(features.line_of(one), features.line_of(two)):
         raise Unlike("features")
     check_switches(2 * model.switches)

@@ -120,6 +120,12 @@ class ContinuousTest(unittest.TestCase):
         corner = "fraction x from 0\nfraction y from 0\ntree t\nask 0 x 1 y 1\ntell 5\ntell {}"
         self.assertTrue(self.jumps(corner.format("4")))
         self.assertFalse(self.jumps(corner.format("5 x 1")))
+        # The only full leaf asks for y above 0, too.
+        corner = "fraction x from 0\nfraction y from 0\ntree t\nask 0 x 1\nask 0 y 1\ntell {}\ntell 0\n"
+        corner += "ask 0 y 1\ntell 0\ntell 0"
+        self.assertEqual([leaf.is_full for leaf in unfolded(Model(corner.format("7"))).leaves], [False] * 3 + [True])
+        self.assertTrue(self.jumps(corner.format("7")))
+        self.assertFalse(self.jumps(corner.format("0 x 3 y 4")))
 
     def test_jumps_out_of_the_ranges_alone(self):
         for number in ("-1", "-2", "1", "1/2"):

@@ -115,6 +115,10 @@ class LayerTest(unittest.TestCase):
                 check_ratio(self, layer.at(kind(given)), layer_worth(layer, point))
         self.assertEqual(layer.at((1, 1)), Ratio(13, 2))
         self.assertEqual(Layer(plane(1, 2), []).at([5]), 11)
+        # Worths of a row near 0, at 0 and at 1.
+        bend = Layer(plane(0, 0), [((0, 1), 1)])
+        for item in (0, 1, -1, HALF, -HALF, Fraction(1, 10 ** 30), Fraction(-1, 10 ** 30), Fraction(3, 2)):
+            check_ratio(self, bend.at((ratio(item),)), abs(item))
 
     def test_lists_are_copied(self):
         row = [-3, 0, 2]

@@ -157,6 +157,10 @@ class TurningsTest(unittest.TestCase):
         turned = X + "rules r\nif left -1 x -1\nif middle 1 x -1\nelse right"
         self.assertEqual(self.both(turned, 0), (("reached", 1), ("reached", 1)))
         self.assertEqual(nearest(Model(turned), (0,), "sum").told, "right")
+        # The leaf that is near stands first.
+        tree = X + "tree t\nask 0 x -1\nask -1 x 1\nclass middle\nclass right\nask 1 x 1\nclass left\nclass middle"
+        self.assertEqual(self.both(tree, 0), (("reached", 1), ("reached", 1)))
+        self.assertEqual(nearest(Model(tree), (0,), "greatest").told, "left")
 
     def test_turnings_by_settings_alone(self):
         sign = "sign s no yes -1/2 u 1"
