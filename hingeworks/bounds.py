@@ -1,9 +1,11 @@
 """The greatest and the least value of number models, and how far two of them differ."""
 
 from hingeworks.extremes import greatest_over, turned_extreme
+from hingeworks.models import check_switches
+from hingeworks.parts import result_part
 from hingeworks.planes import number_plane
 from hingeworks.slopes import check_number_model
-from hingeworks.twofold import check_two
+from hingeworks.twofold import check_two, input_found
 from hingeworks.unfolding import unfolded
 
 
@@ -55,6 +57,23 @@ def above(one, other, by):
         if point is not None:
             return one.features.input_of(leaf.settings, point)
     return None
+
+
+def apart_by(one, other, by):
+    """An input for which the values of two number models differ by more than a ratio from 0 on, or None."""
+    check_two(one, other)
+    check_number_model(one)
+    check_switches(one.switches + other.switches)
+    parts = [result_part(one), result_part(other)]
+    return input_found(parts, lambda told, tableau: point_apart_by(told, tableau, by))
+
+
+def point_apart_by(told, tableau, by):
+    """A point of the place of a settled tableau at which two numbers differ by more than a ratio, or None."""
+    gap = told[0] - told[1]
+    bound = number_plane(by, gap.size)
+    point = tableau.point_with((gap - bound, True))
+    return tableau.point_with((-gap - bound, True)) if point is None else point
 
 
 def greatest_worth(leaves, planes):

@@ -1,6 +1,7 @@
 """Planes as models write them: over the letters, which are features and earlier values."""
 
 from hingeworks.planes import mixed_plane
+from hingeworks.ratios import Ratio, mixed_ratio
 
 
 class Formula:
@@ -14,6 +15,38 @@ class Formula:
         """The plane that this is, if the results of features and lines stand for the letters."""
         pairs = [(multiple, results[place]) for place, multiple in self.parts]
         return mixed_plane(self.fixed, pairs, results[0].size)
+
+    def worth_for(self, values):
+        """The Ratio that this is, if the values of features and lines stand for the letters."""
+        return mixed_ratio(self.fixed, [(multiple, values[place]) for place, multiple in self.parts])
+
+    def scaled(self, ratio):
+        """This formula times a Ratio; a letter whose multiple is 0 is left out."""
+        if ratio.top == 0:
+            return Formula(ratio, [])
+        return Formula(self.fixed * ratio, [(place, multiple * ratio) for place, multiple in self.parts])
+
+    def with_part(self, place, multiple):
+        """This formula plus a multiple of a letter that stands behind its own ones."""
+        return Formula(self.fixed, [*self.parts, (place, multiple)])
+
+
+def number_formula(ratio):
+    """The formula that is a number."""
+    return Formula(ratio, [])
+
+
+def letter_formula(place):
+    """The formula that is one letter."""
+    return Formula(Ratio(0), [(place, Ratio(1))])
+
+
+def with_commas(groups):
+    """The items of some lists in one list, with a "," between any two lists."""
+    items = list(groups[0])
+    for group in groups[1:]:
+        items.extend([",", *group])
+    return items
 
 
 def read_formula(reader, letters):

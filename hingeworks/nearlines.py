@@ -36,6 +36,14 @@ class NearLine(Line):
             kept = [*kept[:place], number, *kept[place:]][:self.many]
         return None, most_voted([self.rows[number][0] for number in kept], self.classes)
 
+    def sketch(self):
+        """The text as rows of items; its ratios are pieces, as no question changes them."""
+        row = ["near", self.name, str(self.many)]
+        for place, measure in self.units:
+            row.extend([place, measure.written()])
+        rows = [["row", told, *[ratio.written() for ratio in ratios]] for told, ratios in self.rows]
+        return [row, *rows]
+
     def nearness(self, one, other):
         """The distance of the row one less that of the row other, a Formula.
 

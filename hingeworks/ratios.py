@@ -115,6 +115,14 @@ def mixed_ratio(fixed, pairs):
     return Ratio(top, bottom)
 
 
+def on_grid(ratio, grid):
+    """The multiple of 1 / grid that is nearest to a Ratio, of two such ones the even multiple."""
+    multiple, rest = divmod(2 * ratio.top * grid + ratio.bottom, 2 * ratio.bottom)
+    if rest == 0 and multiple % 2 == 1:
+        multiple = multiple - 1
+    return Ratio(multiple, grid)
+
+
 def greatest_ratio(ratios):
     """The greatest one of some ratios."""
     best = ratios[0]

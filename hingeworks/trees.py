@@ -28,3 +28,11 @@ class TreeLine(Line):
         if word == "ask":
             return told.plane_for(results), None
         return None, told.plane_for(results) if word == "tell" else told
+
+    def sketch(self):
+        """The text as rows of items."""
+        return [["tree", self.name], *[[word, told] for word, told, _ in self.nodes]]
+
+    def choice_formulas(self):
+        """The choices."""
+        return [told for word, told, _ in self.nodes if word == "tell"]

@@ -17,17 +17,37 @@ def unlike_point(told, tableau):
     one, other = told
     if isinstance(one, str):
         return tableau.point_within() if one != other else None
-    gap = one - other
-    if not any(gap.row):
+    return nonzero_point(one - other, tableau)
+
+
+def nonzero_point(plane, tableau):
+    """A point of the place of a settled tableau at which a plane is not 0, or None."""
+    if not any(plane.row):
         return None
-    point = tableau.point_with((gap, True))
-    return tableau.point_with((-gap, True)) if point is None else point
+    point = tableau.point_with((plane, True))
+    return tableau.point_with((-plane, True)) if point is None else point
 
 
 def greater_point(told, tableau):
     """A point of the place of a settled tableau at which the first of two numbers is greater, or None."""
     one, other = told
     return tableau.point_with((one - other, True))
+
+
+def input_found(models, judge):
+    """An input at a point that judge finds on some leaf of models with equal features, or None.
+
+    The models are unfolded together; judge takes their results on a leaf and the settled tableau of its place.
+    """
+    features = models[0].features
+    rows = features.place_rows()
+    for settings in features.all_settings():
+        letters = features.letters_for(settings)
+        start = first_branch(rows, [(model, letters) for model in models])
+        point = first_told(start, lambda branch: judge(branch.walk.told, branch.tableau))
+        if point is not None:
+            return features.input_of(settings, point)
+    return None
 
 
 def pair_found(model, changes, judge):

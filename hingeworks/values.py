@@ -2,9 +2,15 @@
 
 The step of a line takes the results of the features and of all lines before it, planes and classes, and its own
 answers so far. It returns the plane of the next switch and None, or None and the result of the line.
+
+The sketch of a line is its text as a list of rows, each a list of items; sketches.py tells what they are. The choices
+of a value are Formulas, one of which is the result. The plane shares of a value tell for each of its planes, if
+Ratios and classes stand for the letters, how fast the result grows with the plane.
 """
 
+from hingeworks.formulas import number_formula, with_commas
 from hingeworks.planes import number_plane
+from hingeworks.ratios import Ratio
 
 
 class Line:
@@ -15,6 +21,10 @@ class Line:
         self.kind = kind
         self.classes = tuple(classes)
         self.switches = switches
+
+    def choice_formulas(self):
+        """The choices; a sum and a verdict have none."""
+        return []
 
 
 class SumLine(Line):
@@ -27,6 +37,14 @@ class SumLine(Line):
     def step(self, results, answers):
         """The next switch, or the result."""
         return None, self.formula.plane_for(results)
+
+    def sketch(self):
+        """The text as rows of items."""
+        return [["sum", self.name, self.formula]]
+
+    def plane_shares(self, values):
+        """How fast the result grows with each plane."""
+        return [Ratio(1)]
 
 
 class HingeLine(Line):
@@ -43,6 +61,20 @@ class HingeLine(Line):
         if len(answers) == 0:
             return plane, None
         return None, plane if answers[0] == 1 else plane * self.factor
+
+    def sketch(self):
+        """The text as rows of items."""
+        if self.kind == "hinge":
+            return [["hinge", self.name, self.formula]]
+        return [["leaky", self.name, self.factor, self.formula]]
+
+    def choice_formulas(self):
+        """The choices."""
+        return [self.formula.scaled(self.factor), self.formula]
+
+    def plane_shares(self, values):
+        """How fast the result grows with each plane."""
+        return [Ratio(1) if self.formula.worth_for(values).top > 0 else self.factor]
 
 
 class ClipLine(Line):
@@ -67,6 +99,19 @@ class ClipLine(Line):
             return plane - high_plane, None
         return None, high_plane if answers[1] == 1 else plane
 
+    def sketch(self):
+        """The text as rows of items."""
+        return [["clip", self.name, self.low_end, self.high_end, self.formula]]
+
+    def choice_formulas(self):
+        """The choices."""
+        return [number_formula(self.low_end), self.formula, number_formula(self.high_end)]
+
+    def plane_shares(self, values):
+        """How fast the result grows with each plane."""
+        worth = self.formula.worth_for(values)
+        return [Ratio(1 if self.low_end.under(worth) and worth.at_most(self.high_end) else 0)]
+
 
 class HighestLine(Line):
     """The greatest one of some planes, of equal ones the first."""
@@ -81,6 +126,23 @@ class HighestLine(Line):
         if plane is not None:
             return plane, None
         return None, self.formulas[best_place(answers)].plane_for(results)
+
+    def sketch(self):
+        """The text as rows of items."""
+        return [["highest", self.name, *with_commas([[formula] for formula in self.formulas])]]
+
+    def choice_formulas(self):
+        """The choices."""
+        return list(self.formulas)
+
+    def plane_shares(self, values):
+        """How fast the result grows with each plane."""
+        worths = [formula.worth_for(values) for formula in self.formulas]
+        best = 0
+        for place, worth in enumerate(worths):
+            if worths[best].under(worth):
+                best = place
+        return [Ratio(1 if place == best else 0) for place in range(len(worths))]
 
 
 def best_place(answers):

@@ -1,8 +1,9 @@
 """The lines of verdicts by planes and by votes, and gates: what they ask, and their results.
 
-Their steps are those that values.py tells.
+Their steps, sketches and choices are those that values.py tells.
 """
 
+from hingeworks.formulas import letter_formula, with_commas
 from hingeworks.values import Line, best_place, rival_plane
 
 
@@ -19,6 +20,10 @@ class SignLine(Line):
             return self.formula.plane_for(results), None
         return None, self.classes[answers[0]]
 
+    def sketch(self):
+        """The text as rows of items."""
+        return [["sign", self.name, *self.classes, self.formula]]
+
 
 class ChooseLine(Line):
     """The class of the greatest one of some planes, of equal ones the first."""
@@ -34,6 +39,11 @@ class ChooseLine(Line):
             return plane, None
         return None, self.classes[best_place(answers)]
 
+    def sketch(self):
+        """The text as rows of items."""
+        groups = [[told, formula] for told, formula in zip(self.classes, self.formulas)]
+        return [["choose", self.name, *with_commas(groups)]]
+
 
 class RulesLine(Line):
     """The class of the first rule, a pair of a class and planes, whose planes all are above 0."""
@@ -46,17 +56,33 @@ class RulesLine(Line):
 
     def step(self, results, answers):
         """The next switch, or the result."""
+        number, met = self.come_to(answers)
+        if number == len(self.rules):
+            return None, self.other_class
+        told, formulas = self.rules[number]
+        if met == len(formulas):
+            return None, told
+        return formulas[met].plane_for(results), None
+
+    def come_to(self, answers):
+        """The number of the rule that the answers have come to, and how many of its planes are on.
+
+        Behind all rules it is how many there are.
+        """
         asked = 0
-        for told, formulas in self.rules:
+        for number, (_, formulas) in enumerate(self.rules):
             met = 0
             while asked + met < len(answers) and answers[asked + met] == 1:
                 met += 1
-            if met == len(formulas):
-                return None, told
-            if asked + met == len(answers):
-                return formulas[met].plane_for(results), None
+            if met == len(formulas) or asked + met == len(answers):
+                return number, met
             asked = asked + met + 1
-        return None, self.other_class
+        return len(self.rules), 0
+
+    def sketch(self):
+        """The text as rows of items."""
+        rows = [["if", told, *with_commas([[formula] for formula in formulas])] for told, formulas in self.rules]
+        return [["rules", self.name], *rows, ["else", self.other_class]]
 
 
 class VotesLine(Line):
@@ -70,6 +96,10 @@ class VotesLine(Line):
         """The next switch, or the result."""
         return None, most_voted([results[place] for place in self.places], self.classes)
 
+    def sketch(self):
+        """The text as rows of items."""
+        return [["votes", self.name, *self.classes, ":", *self.places]]
+
 
 class GateLine(Line):
     """The result of the value or verdict that stands behind the class that a verdict has."""
@@ -82,6 +112,17 @@ class GateLine(Line):
     def step(self, results, answers):
         """The next switch, or the result."""
         return None, results[self.choices[results[self.place]]]
+
+    def sketch(self):
+        """The text as rows of items."""
+        row = ["gate", self.name, self.place]
+        for told, place in self.choices.items():
+            row.extend([told, place])
+        return [row]
+
+    def choice_formulas(self):
+        """The choices; a gate of verdicts has none."""
+        return [letter_formula(place) for place in self.choices.values()] if self.classes == () else []
 
 
 def most_voted(votes, classes):

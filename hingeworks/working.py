@@ -2,6 +2,7 @@
 
 from hingeworks.errors import BadGiven
 from hingeworks.planes import Plane, number_plane
+from hingeworks.ratios import as_ratios
 from hingeworks.walking import begun
 
 
@@ -26,6 +27,11 @@ def worked(model, given):
         walk = walk.answered(answer)
     numbers = [told.fixed if isinstance(told, Plane) else told for told in walk.results[len(given):]]
     return Worked(numbers[-1], answers, dict(zip(model.names, numbers)))
+
+
+def values_at(model, given):
+    """The results of all features and lines of a model at an input, each in its place."""
+    return [*as_ratios(given), *list(worked(model, given).results.values())]
 
 
 def check_given(model, given):

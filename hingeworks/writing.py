@@ -20,3 +20,9 @@ def fresh_names(taken, many):
         found.extend([name for name in names if name not in taken][:many - len(found)])
         names = [name + letter for name in names for letter in LETTERS]
     return found
+
+
+def learned_name(features):
+    """The name of the line of a learned model."""
+    names = ["learned", *["learned" + letter for letter in LETTERS]]
+    return [name for name in names if name not in features.names][0]

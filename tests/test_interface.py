@@ -28,6 +28,19 @@ FUNCTIONS = {
     "onelayer": ["one_layer", "layer_model"],
     "reasons": ["at_least", "reasons", "enough_papers", "turned"],
     "turnings": ["nearest", "distance_of"],
+    "settling": ["settled", "twins"],
+    "slimming": ["slimmed", "thinned"],
+    "treeing": ["tree_of"],
+    "netting": ["net_of"],
+    "rounding": ["rounded", "first_grid"],
+    "squares": ["least_squares", "square_sum"],
+    "perceptrons": ["run_perceptron", "fence_model"],
+    "fences": ["fence", "laid_out", "widest_fence"],
+    "orders": ["most_errors"],
+    "growing": ["grown"],
+    "training": ["trained"],
+    "labels": ["label_shares", "extent", "fewest_labels", "fewest_classes"],
+    "lots": ["verdict_of", "lots", "least_lot"],
 }
 METHODS = {
     ("ratios", "Ratio"): ["__init__", "__add__", "__sub__", "__mul__", "__neg__", "__eq__", "over", "compared",
@@ -55,6 +68,20 @@ METHODS = {
     ("onelayer", "Stop"): ["__init__"],
     ("reasons", "Reasons"): ["__init__"],
     ("turnings", "Nearest"): ["__init__"],
+    ("slimming", "Thinned"): ["__init__"],
+    ("rounding", "GridChoice"): ["__init__"],
+    ("tables", "Table"): ["__init__", "__eq__", "put_in", "taken_out", "neighbours"],
+    ("perceptrons", "Steps"): ["__init__"],
+    ("fences", "Fence"): ["__init__"],
+    ("fences", "Ring"): ["__init__"],
+    ("fences", "Widest"): ["__init__"],
+    ("orders", "Most"): ["__init__"],
+    ("orders", "Endless"): ["__init__"],
+    ("labels", "Extent"): ["__init__"],
+    ("labels", "Turning"): ["__init__"],
+    ("lots", "Lots"): ["__init__"],
+    ("desks", "Desk"): ["__init__", "model_names", "acts", "model_of", "origin_of", "promises_of", "put", "derive", "learn", "set_model", "drop",
+                        "add_promise", "end_promise", "undo", "redo", "tried"],
 }
 PARAMETERS = {
     ("rims", "rims"): 1, ("areas", "areas"): 1, ("areas", "shares"): 1, ("alike", "apart"): 2,
@@ -66,7 +93,18 @@ PARAMETERS = {
     ("pairs", "Pair"): 2, ("pairs", "least_pair"): 1, ("pairs", "highest_of"): 1, ("pairs", "pair_apart"): 2,
     ("pairs", "pair_of"): 1, ("onelayer", "one_layer"): 1, ("onelayer", "Layer"): 2, ("onelayer", "layer_model"): 2,
     ("reasons", "at_least"): 2, ("reasons", "reasons"): 2, ("reasons", "enough_papers"): 3, ("reasons", "turned"): 3,
-    ("turnings", "nearest"): 3, ("turnings", "distance_of"): 4,
+    ("turnings", "nearest"): 3, ("turnings", "distance_of"): 4, ("settling", "settled"): 1, ("settling", "twins"): 1,
+    ("slimming", "slimmed"): 1, ("slimming", "thinned"): 2, ("treeing", "tree_of"): 1, ("netting", "net_of"): 1, ("rounding", "rounded"): 2,
+    ("rounding", "first_grid"): 2, ("tables", "Table"): 2, ("squares", "square_sum"): 2, ("perceptrons", "fence_model"): 2, ("fences", "fence"): 1,
+    ("fences", "laid_out"): 2, ("fences", "widest_fence"): 1, ("fences", "Fence"): 1, ("fences", "Ring"): 1, ("fences", "Widest"): 3,
+    ("orders", "most_errors"): 1, ("orders", "Most"): 3, ("orders", "Endless"): 1, ("growing", "grown"): 3, ("training", "trained"): 5,
+    ("labels", "fewest_classes"): 3, ("labels", "Extent"): 4, ("labels", "Turning"): 2, ("lots", "verdict_of"): 3, ("lots", "lots"): 4,
+    ("lots", "least_lot"): 3, ("lots", "Lots"): 2, ("perceptrons", "Steps"): 2, ("desks", "Desk"): 0,
+}
+# Functions whose last parameter may be left out: how many there are, and what it is then.
+OPTIONAL = {
+    ("ratios", "Ratio"): (2, 1), ("squares", "least_squares"): (2, 0), ("perceptrons", "run_perceptron"): (3, None), ("labels", "label_shares"): (3, 0),
+    ("labels", "extent"): (5, 0), ("labels", "fewest_labels"): (6, 0),
 }
 
 
@@ -94,6 +132,17 @@ class InterfaceTest(unittest.TestCase):
             told = inspect.signature(self.found(module, name)).parameters.values()
             self.assertEqual([one.kind for one in told], [inspect.Parameter.POSITIONAL_OR_KEYWORD] * many, name)
             self.assertTrue(all(one.default is inspect.Parameter.empty for one in told), name)
+
+    def test_parameters_that_may_be_left_out(self):
+        for (module, name), (many, last) in OPTIONAL.items():
+            told = list(inspect.signature(self.found(module, name)).parameters.values())
+            self.assertEqual([one.kind for one in told], [inspect.Parameter.POSITIONAL_OR_KEYWORD] * many, name)
+            self.assertTrue(all(one.default is inspect.Parameter.empty for one in told[:-1]), name)
+            self.assertEqual(told[-1].default, last)
+
+    def test_the_attributes_of_a_desk_are_properties(self):
+        desk = self.found("desks", "Desk")
+        self.assertTrue(all(isinstance(vars(desk)[name], property) for name in ("model_names", "acts")))
 
     def test_errors_are_defined_in_their_file(self):
         errors = importlib.import_module("hingeworks.errors")

@@ -226,6 +226,31 @@ class LanguageTest(unittest.TestCase):
         for where, _ in self.nodes(ast.GeneratorExp, ast.Yield, ast.YieldFrom, ast.SetComp):
             self.fail(where)
 
+    def test_ranges_and_the_like_are_iterated_at_once(self):
+        at_once = ("list", "tuple", "dict", "sorted", "sum", "any", "all", "enumerate", "zip", "min", "max", "len", "reversed", "combinations")
+        for path, tree in self.trees:
+            above = {id(part): node for node in ast.walk(tree) for part in ast.iter_child_nodes(node)}
+            for node in ast.walk(tree):
+                if not isinstance(node, ast.Call):
+                    continue
+                name = getattr(node.func, "id", None) or getattr(node.func, "attr", None)
+                if name in ("range", "zip", "enumerate", "reversed", "items", "keys", "values"):
+                    outer = above[id(node)]
+                    called = isinstance(outer, ast.Call) and getattr(outer.func, "id", None) in at_once
+                    iterated = isinstance(outer, (ast.For, ast.comprehension)) and outer.iter is node
+                    self.assertTrue(called or iterated or isinstance(outer, ast.Compare), (path.name, node.lineno))
+
+    def test_strings_inside_f_strings(self):
+        for path, tree in self.trees:
+            text = path.read_text("utf-8")
+            for node in ast.walk(tree):
+                if isinstance(node, ast.JoinedStr):
+                    inner = [part for value in node.values if isinstance(value, ast.FormattedValue) for part in ast.walk(value.value)
+                             if isinstance(part, ast.Constant) and isinstance(part.value, str)]
+                    if inner:
+                        row = text.split("\n")[node.lineno - 1]
+                        self.assertNotIn("\\", row, (path.name, node.lineno))
+
     def test_words_that_do_not_occur(self):
         words = re.compile(r"_wall|_WallAttr|dataclass|overload|contextmanager")
         for path, _ in self.trees:
