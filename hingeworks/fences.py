@@ -8,7 +8,7 @@ from hingeworks.normals import common_bottom, products, scaled_whole
 from hingeworks.perceptrons import MOST_STEPS, check_two_classes, signed_rows
 from hingeworks.places import Place
 from hingeworks.planes import Plane
-from hingeworks.ratios import Ratio, as_ratios, ascending, is_integer, mixed_ratio
+from hingeworks.ratios import Ratio, as_ratio, as_ratios, ascending, is_integer, mixed_ratio
 
 MOST_WIDEST_ROWS = 10
 
@@ -32,7 +32,7 @@ class Widest:
 
     def __init__(self, weights, square, shares):
         self.weights = as_ratios(weights)
-        self.square = square
+        self.square = as_ratio(square)
         self.shares = as_ratios(shares)
 
 

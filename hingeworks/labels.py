@@ -4,7 +4,6 @@ from hingeworks.errors import BadGiven, BadNumber, NotFull, Unlike
 from hingeworks.normals import Normal
 from hingeworks.ratios import Ratio, as_ratio, as_ratios, ascending, is_ratio, mixed_ratio
 from hingeworks.squares import check_pull
-from hingeworks.tables import check_neighbours
 from hingeworks.verdicts import most_voted, unlike
 
 
@@ -12,18 +11,18 @@ class Extent:
     """The least and the greatest score of tables with labels within bounds, and labels that reach them."""
 
     def __init__(self, least, greatest, least_labels, greatest_labels):
-        self.least = least
-        self.greatest = greatest
-        self.least_labels = least_labels
-        self.greatest_labels = greatest_labels
+        self.least = as_ratio(least)
+        self.greatest = as_ratio(greatest)
+        self.least_labels = as_ratios(least_labels)
+        self.greatest_labels = as_ratios(greatest_labels)
 
 
 class Turning:
     """As few rows as possible whose labels alone turn a verdict, and the labels of a table with the other verdict."""
 
     def __init__(self, rows, labels):
-        self.rows = rows
-        self.labels = labels
+        self.rows = tuple(rows)
+        self.labels = tuple(labels)
 
 
 def label_shares(table, given, pull=0):
@@ -65,7 +64,7 @@ def fewest_labels(table, given, ratio, lows, highs, pull=0):
         labels[number] = ends[number]
         rows.append(number)
         if reaches(shares, labels, ratio) != verdict:
-            return Turning(tuple(sorted(rows)), tuple(labels))
+            return Turning(sorted(rows), labels)
     return None
 
 
@@ -73,7 +72,7 @@ def fewest_classes(table, given, many):
     """The fewest rows whose classes turn the verdict of the nearest rows, a Turning, or None."""
     check_table(table, "class")
     check_input(table, given)
-    check_neighbours(many)
+    # This raises what is wrong with many, and with so many neighbours.
     table.neighbours(many)
     order = near_order(table, given)
     labels = [label for _, label in table.rows]
@@ -82,13 +81,13 @@ def fewest_classes(table, given, many):
         for told in table.classes:
             fresh = [*labels[:number], told, *labels[number + 1:]]
             if near_class(order, fresh, many) != verdict:
-                return Turning((number,), tuple(fresh))
+                return Turning([number], fresh)
     if len(table.classes) == 1:
         return None
     # Two of up to three nearest rows have more votes than the other one.
     other = [told for told in table.classes if told != verdict][0]
-    rows = tuple(sorted(order[:2]))
-    return Turning(rows, tuple([other if number in rows else label for number, label in enumerate(labels)]))
+    rows = sorted(order[:2])
+    return Turning(rows, [other if number in rows else label for number, label in enumerate(labels)])
 
 
 def check_table(table, kind):

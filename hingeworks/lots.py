@@ -17,8 +17,8 @@ class Lots:
     """All lots that turn the verdict, and all dull ones."""
 
     def __init__(self, turning, dull):
-        self.turning = turning
-        self.dull = dull
+        self.turning = tuple(turning)
+        self.dull = tuple(dull)
 
 
 class StraightLearner:
@@ -74,7 +74,7 @@ def lots(table, given, most, learner):
                 dull.append(lot)
             elif other != verdict:
                 turning.append(lot)
-    return Lots(tuple(turning), tuple(dull))
+    return Lots(turning, dull)
 
 
 def least_lot(table, given, learner):

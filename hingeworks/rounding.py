@@ -17,7 +17,7 @@ class GridChoice:
 
     def __init__(self, grid, lost):
         self.grid = grid
-        self.lost = lost
+        self.lost = tuple(lost)
 
 
 def rounded(model, grid):
@@ -41,9 +41,9 @@ def first_grid(model, grids):
     for grid in grids:
         given = input_found([result_part(model), result_part(rounded(model, grid))], unlike_point)
         if given is None:
-            return GridChoice(grid, tuple(lost))
+            return GridChoice(grid, lost)
         lost.append(given)
-    return GridChoice(None, tuple(lost))
+    return GridChoice(None, lost)
 
 
 def check_grid(grid):

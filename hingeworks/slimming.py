@@ -18,8 +18,8 @@ class Thinned:
 
     def __init__(self, model, cut, kept):
         self.model = model
-        self.cut = cut
-        self.kept = kept
+        self.cut = tuple(cut)
+        self.kept = tuple(kept)
 
 
 def slimmed(model):
@@ -52,17 +52,17 @@ def replaced_lines(model):
             found.append([["sum", line.name, formula]])
         elif line.kind in SLIMMERS:
             action = SLIMMERS[line.kind]
-            found.append(action(line, met_answers(model, line), names))
+            found.append(action(model, line))
         else:
             found.append(line.sketch())
     return found
 
 
-def slim_tree(line, met, names):
-    """The sketch of a tree without the switches that inputs do not need; met are the rows of answers they give."""
+def slim_tree(model, line):
+    """The sketch of a tree without the switches that inputs do not need."""
     head, *nodes = line.sketch()
-    texts = [written_row(row, names) for row in nodes]
-    numbers = slim_node(line.nodes, texts, 0, 0, met)
+    texts = [written_row(row, names_of(model)) for row in nodes]
+    numbers = slim_node(line.nodes, texts, 0, 0, met_answers(model, line))
     classes = unlike([line.nodes[at][1] for at in numbers if line.nodes[at][0] == "class"])
     return [head, *[nodes[at] for at in numbers]] if classes == line.classes else line.sketch()
 
@@ -85,17 +85,17 @@ def slim_node(nodes, texts, at, depth, met):
     return [at, *below, *above]
 
 
-def slim_highest(line, met, names):
+def slim_highest(model, line):
     """The sketch of a line "highest" without the planes that are the best one for no input."""
-    best = {best_place(answers): True for answers in met}
+    best = {best_place(answers): True for answers in met_answers(model, line)}
     formulas = [formula for place, formula in enumerate(line.formulas) if place in best]
     return HighestLine(line.name, formulas).sketch()
 
 
-def slim_rules(line, met, names):
+def slim_rules(model, line):
     """The sketch of rules without those that give the result for no input."""
     given = {}
-    for answers in met:
+    for answers in met_answers(model, line):
         number, _ = line.come_to(answers)
         given[number] = True
     made = RulesLine(line.name, [rule for number, rule in enumerate(line.rules) if number in given], line.other_class)
@@ -123,7 +123,7 @@ def thinned(model, most):
                 made = tried_model
             else:
                 kept.append((line.name, given))
-    return Thinned(made, tuple(cut), tuple(kept))
+    return Thinned(made, cut, kept)
 
 
 def without_hinges(model, names):

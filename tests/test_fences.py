@@ -212,6 +212,18 @@ class WidestTest(unittest.TestCase):
                 kinds[self.check(one) is None] += 1
         self.assertGreater(min(kinds.values()), 25)
 
+    def test_rows_that_depend_on_one_another(self):
+        # On the way to the widest fence some rows are tried whose signed rows are not independent.
+        rows = [(0, 3, 0, "a"), (0, 0, 1, "b"), (2, 1, 1, "a"), (0, 1, 1, "b"), (2, 1, 0, "a"), (3, 0, 1, "b"), (2, 0, 2, "b"), (2, 2, 2, "b")]
+        self.assertIsNotNone(self.check(table("fraction x\nfraction y\nfraction z", *rows)))
+        rng = random.Random(586)
+        found = []
+        for _ in range(150):
+            rows = [(*[rng.randint(0, 2) for _ in range(3)], rng.choice("ab")) for _ in range(rng.randint(4, 9))]
+            if len({row[-1] for row in rows}) == 2:
+                found.append(self.check(table("fraction x\nfraction y\nfraction z", *rows)) is None)
+        self.assertGreater(min(found.count(True), found.count(False)), 25)
+
     def test_it_is_the_widest(self):
         rng = random.Random(584)
         for turn in range(30):
