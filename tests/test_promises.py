@@ -165,7 +165,7 @@ class PromisesTest(unittest.TestCase):
         check_raised(self, Unlike, {"what": "kind"}, desk.set_model, "a", "sign")
 
     def test_wrong_promises(self):
-        desk = desk_of(a=RISING, sign=SIGN, dot=DOT, deep=PAIR + "highest h " + " , ".join(["0"] * 41))
+        desk = desk_of(a=RISING, sign=SIGN, dot=DOT, other=UNIT + "sum f 0", deep=PAIR + "highest h " + " , ".join(["0"] * 41))
         before = seen(desk)
         for name in ("none", *NO_NAMES):
             check_raised(self, NoModel, {"name": name}, desk.add_promise, name, None)
@@ -185,6 +185,8 @@ class PromisesTest(unittest.TestCase):
             ("deep", ("rising", "u"), TooLarge, {"what": "switches", "many": 80, "limit": 40}), ("deep", ("blind", "x"), TooLarge, {"what": "switches", "many": 80, "limit": 40}),
             ("deep", ("alike", "dot"), TooLarge, {"what": "switches", "many": 41, "limit": 40}), ("dot", ("within", "deep", 0), TooLarge, {"what": "switches", "many": 41, "limit": 40}),
             ("sign", ("within", "sign", 0), Unlike, {"what": "kind"}), ("sign", ("within", "a", 0), Unlike, {"what": "kind"}),
+            ("a", ("within", "sign", 0), Unlike, {"what": "kind"}), ("a", ("within", "other", 0), Unlike, {"what": "features"}),
+            ("other", ("within", "sign", 0), Unlike, {"what": "features"}), ("a", ("alike", "other"), Unlike, {"what": "features"}),
         ]:
             check_raised(self, error, fields, desk.add_promise, name, promise)
         self.assertEqual(seen(desk), before)
